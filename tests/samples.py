@@ -1,9 +1,13 @@
-"""Values that several test files use."""
+"""Values that several test files use, and an evaluation that they compare the program with."""
 
 import copy
+import itertools
+import random
 
 A, B, C, D, E = [("test", name) for name in ("a", "b", "c", "d", "e")]
 RESERVED = ["and", "or", "not", "if", "else"]
+RESULTS = ["yes", "no"]
+ANSWERS = ["yes", "no", "fails"]
 
 
 def nots(number, condition):
@@ -138,3 +142,223 @@ def unchanged(case, function, *arguments):
         return function(*arguments)
     finally:
         case.assertEqual(repr(arguments), repr(before))
+
+
+def evaluation(condition):
+    """Evaluate the condition as point 4 tells: yield each name that is asked, take its answer, and return the end."""
+    kind, *members = condition
+    if kind == "test":
+        return (yield members[0])
+    if kind == "not":
+        end = yield from evaluation(members[0])
+        return "no" if end == "yes" else "yes"
+    if kind == "if":
+        end = yield from evaluation(members[0])
+        return (yield from evaluation(members[1] if end == "yes" else members[2]))
+    for member in members:
+        end = yield from evaluation(member)
+        if end == ("no" if kind == "and" else "yes"):
+            return end
+    return end
+
+
+def told(condition, answers):
+    """The names that are asked and the end, if the askings get these answers in their order."""
+    going = evaluation(condition)
+    asked = [next(going)]
+    for answer in answers:
+        if answer == "fails":
+            return tuple(asked), "failed"
+        try:
+            asked.append(going.send(answer))
+        except StopIteration as stop:
+            return tuple(asked), stop.value
+    return tuple(asked), "open"
+
+
+def told_steadily(condition, answered):
+    """The names that are asked, none twice, and the end, if they keep the answers of this dict (KeyError: missing)."""
+    going = evaluation(condition)
+    asked = []
+    name = next(going)
+    while True:
+        answer = answered[name]
+        if name not in asked:
+            asked.append(name)
+        if answer == "fails":
+            return tuple(asked), "failed"
+        try:
+            name = going.send(answer)
+        except StopIteration as stop:
+            return tuple(asked), stop.value
+
+
+def tree_of(condition, answered=()):
+    """The steady tree of a condition: a result, or a tuple of the name that is asked and of the trees behind it."""
+    try:
+        return told_steadily(condition, dict(answered))[1]
+    except KeyError as missing:
+        name = missing.args[0]
+    return (name, *[tree_of(condition, [*answered, (name, answer)]) for answer in ("yes", "no")])
+
+
+def ways(run, choices=("yes", "no", "fails")):
+    """All lists of answers that lead to an end, none of them longer than needed. (run takes a list of answers.)"""
+    found = []
+    waiting = [[]]
+    while waiting:
+        answers = waiting.pop()
+        if run(answers)[1] == "open":
+            waiting += [[*answers, answer] for answer in choices]
+        else:
+            found.append(answers)
+    return found
+
+
+def all_assignments(names, choices=("yes", "no")):
+    """All assignments of these ascending names."""
+    return [tuple(zip(names, answers)) for answers in itertools.product(choices, repeat=len(names))]
+
+
+def random_condition(source, number, names, with_if):
+    """A condition with so many tests, with names out of these; source is a random.Random."""
+    if source.random() < 0.2:
+        return ("not", random_condition(source, number, names, with_if))
+    if number == 1:
+        return ("test", source.choice(names))
+    kind = source.choice(["and", "or", "if"] if with_if and number > 2 else ["and", "or"])
+    many = 3 if kind == "if" else source.randint(2, min(4, number))
+    cuts = sorted(source.sample(range(1, number), many - 1))
+    sizes = [high - low for low, high in zip([0, *cuts], [*cuts, number])]
+    return (kind, *[random_condition(source, size, names, with_if) for size in sizes])
+
+
+def random_conditions(many, largest, names, with_if=True, seed=1):
+    """So many conditions with at most so many tests each, always the same ones."""
+    source = random.Random(seed)
+    return [random_condition(source, source.randint(1, largest), names, with_if) for _ in range(many)]
+
+
+def steady_trees(names):
+    """All trees in which no name is asked twice on a way: results, or tuples of a name and of the trees behind it."""
+    found = ["yes", "no"]
+    for name in names:
+        later = steady_trees([other for other in names if other != name])
+        found += [(name, yes, no) for yes in later for no in later]
+    return found
+
+
+def code_of_tree(tree):
+    """The code of a tree that is no result: as point 6 tells, with each row in the place where it is met first."""
+    rows = []
+    places = {}
+
+    def place(part):
+        if isinstance(part, str):
+            return part
+        if part not in places:
+            places[part] = len(rows)
+            rows.append(None)
+            name, yes, no = part
+            rows[places[part]] = (name, place(yes), place(no))
+        return places[part]
+
+    place(tree)
+    # The targets are placed after the row, the yes target with all that follows it first: so this is the order of 6.
+    return tuple(rows)
+
+
+def chain(number, names="abcdefgh"):
+    """A code with so many rows, of which each leads to the next one with yes, with these names in turn."""
+    rows = [(names[k % len(names)], k + 1, "no") for k in range(number)]
+    return (*rows[:-1], (rows[-1][0], "yes", "no"))
+
+
+def invalid_codes():
+    """Values that are no codes."""
+    one = (("a", 1, "no"), ("b", "yes", "no"))
+    found = [*plain_values(), "a", "yes", A, ("and", A, B), nested(99, tuple), nested(99, list), nested(99, dict)]
+    found += [list(one), [*one], (list(one[0]), one[1]), (one[0], list(one[1])), {0: one[0], 1: one[1]}, one[1], (one,)]
+    found += [(("a", "yes", "no", "no"),), (("a", "yes"),), (("a",),), ((),), ("a",), (None,), (("a", "yes", "no"), None)]
+    found += [((name, "yes", "no"),) for name in invalid_names()]
+    targets = [True, False, None, -1, 1, 2, 60, 10 ** 999, -10 ** 999, "", "Yes", "NO", "fails", "failed", "open", "a",
+               "0", "1", "yes ", " no", (), [], {}, ("yes",), ["no"], (0,), [0], nested(95, tuple)]
+    found += [(("a", target, "no"),) for target in targets] + [(("a", "yes", target),) for target in targets]
+    second = [target for target in targets if target != 1 or target is True]
+    found += [(("a", target, "no"), one[1]) for target in second]
+    found += [(one[0], ("b", target, "no")) for target in targets] + [(one[0], ("b", "yes", target)) for target in targets]
+    found += [*misplaced_codes(), *cyclic_codes(), chain(61), chain(400), chain(9, "abcdefghi"), (("a", "yes", "no"),) * 400]
+    return found
+
+
+def misplaced_codes():
+    """Tuples of rows that are no codes because of the order of the rows, of equal rows, or of rows never met."""
+    return [
+        (("a", 2, "no"), ("c", "yes", "no"), ("b", 1, "no")),
+        (("a", 2, 1), ("b", 2, "no"), ("c", "yes", "no")),
+        (("a", 2, 1), ("b", "yes", "no"), ("c", "yes", "no")),
+        (("b", "yes", "no"), ("a", 0, "no")),
+        (("a", "yes", "no"), ("b", "yes", "no")),
+        (("a", 1, "no"), ("b", "yes", "no"), ("c", "yes", "no")),
+        (("a", 1, "no"), ("b", "yes", "no"), ("c", 1, "no")),
+        (("a", 1, 2), ("b", "yes", "no"), ("b", "yes", "no")),
+        (("a", 1, 3), ("b", 2, "no"), ("c", "yes", "no"), ("c", "yes", "no")),
+        (("a", "yes", "no"), ("a", "yes", "no")),
+        (("a", 1, 3), ("b", 2, "no"), ("c", "yes", "no"), ("b", 2, "no")),
+    ]
+
+
+def cyclic_codes():
+    """Tuples of rows that are no codes because a row leads back to itself."""
+    return [
+        (("a", 0, "no"),),
+        (("a", "yes", 0),),
+        (("a", 0, 0),),
+        (("a", 1, "no"), ("b", 1, "no")),
+        (("a", 1, "no"), ("b", 0, "no")),
+        (("a", 1, "no"), ("b", "yes", 0)),
+        (("a", 1, "no"), ("b", 2, "no"), ("c", 0, "no")),
+        (("a", 1, "no"), ("b", 2, "no"), ("c", "yes", 1)),
+        (("a", 1, 3), ("b", 2, "no"), ("c", "yes", 3), ("d", 2, "no")),
+        (("a", "yes", "no"), ("b", 1, "no")),
+        (*chain(59)[:-1], ("c", 59, "no"), ("d", 0, "no")),
+    ]
+
+
+def invalid_answers():
+    """Values that are no answers."""
+    found = [value for value in plain_values() if value != []]
+    found += ["yes", "no", ("yes",), ("yes", "no"), {"yes": "no"}, {0: "yes"}, ["yes"] * 201, ["fails"] * 400]
+    found += [[*before, bad, *behind] for before, behind in [([], []), (["yes"], ["no"]), (["fails"] * 199, [])]
+              for bad in ["", "Yes", "NO", "fail", "failed", "open", "yes ", " no", None, True, False, 0, 1, [], ["yes"], (),
+                          ("yes",), {}, {"yes": "yes"}, nested(98, list), nested(98, tuple)]]
+    return found
+
+
+def invalid_assignments(answers=("yes", "no")):
+    """Values that are no assignments of these answers."""
+    found = [value for value in plain_values() if value != ()]
+    found += ["yes", ["a", "yes"], ("a", "yes"), [("a", "yes")], {"a": "yes"}, (["a", "yes"],), ({"a": "yes"},)]
+    found += [(("a", "yes"), ["b", "no"]), ("ay", "bn"), (("a",),), ((),), (("a", "yes", "no"),), (("a", "yes"), ("b",))]
+    found += [((name, "yes"),) for name in invalid_names()] + [(("a", "no"), (name, "yes")) for name in invalid_names()]
+    bad = ["", "Yes", "NO", "fail", "failed", "open", "yes ", None, True, False, 0, 1, [], ["yes"], (), ("yes",), {}]
+    bad += [answer for answer in ANSWERS if answer not in answers]
+    found += [(("a", answer),) for answer in bad] + [(("a", "yes"), ("b", answer)) for answer in bad]
+    for names in ["ba", "aa", "acb", "aab", "abb", "abcdefhg", "abcdefghi", "abcdefghh"]:
+        found.append(tuple([(name, "yes") for name in names]))
+    found += [(("b", "yes"), ("ab", "yes")), (("ab", "no"), ("a", "yes")), (("a", "yes"), ("a", "no"))]
+    found += [(("a", "yes"),) * 400, tuple(nested(97, tuple) for _ in range(8)), nested(99, tuple), nested(99, list)]
+    return found
+
+
+def invalid_kinds():
+    """Values that are neither "and" nor "or"."""
+    return [*plain_values(), "not", "if", "else", "test", "AND", "Or", "and ", " or", "and or", "a", "xor", ["and"], ("or",),
+            {"and": "or"}, nested(99, list), "and" * 9999]
+
+
+def invalid_numbers(least, most):
+    """Values that are no integers from least to most."""
+    found = [value for value in plain_values() if not isinstance(value, int) or isinstance(value, bool)]
+    found += [least - 1, most + 1, least - 100, most + 100, 10 ** 999, -10 ** 999]
+    return [*found, str(least), str(most), [least], (most,), {most: most}, nested(99, list)]

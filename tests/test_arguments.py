@@ -1,26 +1,16 @@
-"""Points 7 and 8: what an argument may be, which error is raised for it, and how long a call takes."""
+"""Points 7 and 8 for conditions and texts: what an argument may be, which error is raised, how long a call takes."""
 
 import time
 import unittest
 
 from leftfirst.conditions import dual, is_condition, names, replaced, tests
-from leftfirst.errors import InvalidCondition, InvalidName, InvalidText, LeftFirstError, TooLarge
+from leftfirst.errors import InvalidCondition, InvalidName, InvalidText, TooLarge
 from leftfirst.texts import read, write
+from tests.checks import LONGEST, Calls, kinds
 from tests.samples import A, B, C, bounds, flat, invalid_conditions, invalid_names, nested, nots, unchanged
 
-LONGEST = 2.0
 
-
-class WrongArguments(unittest.TestCase):
-    def check(self, error, function, *arguments):
-        """Check that exactly this error is raised, that nothing is modified, and that it does not take long."""
-        with self.subTest(function.__name__, arguments=repr(arguments)[:80]):
-            began = time.perf_counter()
-            with self.assertRaises(LeftFirstError) as caught:
-                unchanged(self, function, *arguments)
-            self.assertIs(type(caught.exception), error)
-            self.assertLess(time.perf_counter() - began, LONGEST)
-
+class WrongArguments(Calls):
     def test_functions_of_one_condition(self):
         for function in [tests, names, dual, write]:
             for value in invalid_conditions():
@@ -121,15 +111,6 @@ class RightArguments(unittest.TestCase):
             began = time.perf_counter()
             self.assertIn(unchanged(self, is_condition, value), [True, False])
             self.assertLess(time.perf_counter() - began, LONGEST)
-
-
-def kinds(value):
-    """The set of the kinds of values in a condition."""
-    found = {type(value)}
-    if isinstance(value, tuple):
-        for part in value:
-            found |= kinds(part)
-    return found
 
 
 if __name__ == "__main__":

@@ -1,6 +1,7 @@
-"""The files of the package: __init__.py is empty, and sizes and characters are those of LANGUAGE.md."""
+"""The files: __init__.py is empty, sizes and characters are those of LANGUAGE.md, and README.md tells what holds."""
 
 import ast
+import doctest
 import pathlib
 import unittest
 
@@ -24,6 +25,14 @@ class Files(unittest.TestCase):
                 for node in ast.walk(ast.parse(text)):
                     if isinstance(node, ast.FunctionDef):
                         self.assertLessEqual(node.end_lineno - node.lineno + 1, 40, node.name)
+
+    def test_examples_of_the_readme(self):
+        # Without the fences, which would count as the last line of what an example returns.
+        text = (FOLDER.parent / "README.md").read_text(encoding="ascii").replace("```", "")
+        examples = doctest.DocTestParser().get_doctest(text, {}, "README.md", "README.md", 0)
+        outcome = doctest.DocTestRunner().run(examples)
+        self.assertEqual(outcome.failed, 0)
+        self.assertGreater(outcome.attempted, 10)
 
 
 if __name__ == "__main__":
