@@ -107,6 +107,11 @@ def met(rows, start, avoided=None):
     return list(found)
 
 
+def cut(rows, at, end):
+    """Return the list of the rows in which this result stands wherever they led to the row with this number."""
+    return [(name, end if yes == at else yes, end if no == at else no) for name, yes, no in rows]
+
+
 def run_code(code, answers):
     """Return the names that the code asks and the end, if the askings get these answers in their order."""
     check_code(code)

@@ -85,6 +85,14 @@ def names(condition):
     return tuple(sorted(set(tests(condition))))
 
 
+def both_names(one, other):
+    """Return the ascending list of the names of the two conditions, if these are few enough together."""
+    found = sorted(set([*names(one), *names(other)]))
+    if len(found) > MOST_NAMES:
+        raise TooLarge("the two conditions have more than 8 names together")
+    return found
+
+
 def replaced(condition, name, other):
     """Return the condition in which the condition other stands for every test of this name."""
     check_condition(condition)

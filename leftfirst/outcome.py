@@ -3,9 +3,8 @@
 from math import comb
 
 from leftfirst.codes import bounded
-from leftfirst.conditions import MOST_NAMES, check_condition, names
-from leftfirst.errors import TooLarge
-from leftfirst.running import ANSWERS, assignments, check_assignment, rows_of, steadily_walked
+from leftfirst.conditions import check_condition
+from leftfirst.running import ANSWERS, both_runs, check_assignment, rows_of, steadily_walked
 from leftfirst.steady import MOST_COUNTED, check_number, steady_tree, tree_code
 
 
@@ -58,20 +57,11 @@ def _answered(tree, name, answer):
 
 def outcome_difference(one, other):
     """Return None, or an outcome assignment with at most one fails for which the conditions end in different ways."""
-    check_condition(one)
-    check_condition(other)
-    both = sorted(set([*names(one), *names(other)]))
-    if len(both) > MOST_NAMES:
-        raise TooLarge("the two conditions have more than 8 names together")
-    rows = rows_of(one)
-    other_rows = rows_of(other)
-    for assignment in assignments(both):
-        asked, end = steadily_walked(rows, assignment)
-        other_asked, other_end = steadily_walked(other_rows, assignment)
+    for assignment, (asked, end), (other_asked, other_end) in both_runs(one, other):
         if end != other_end:
             return assignment
         # What only one of them asks makes only this one fail.
-        for name in both:
+        for name, _ in assignment:
             if (name in asked) != (name in other_asked):
                 return _with_failure(assignment, name)
     return None

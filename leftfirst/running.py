@@ -1,6 +1,6 @@
 """Runs of conditions: what they ask, and how they end, with answers in a list or in an assignment."""
 
-from leftfirst.conditions import MOST_NAMES, check_condition, is_name
+from leftfirst.conditions import MOST_NAMES, both_names, check_condition, is_name
 from leftfirst.errors import InvalidAnswers, InvalidAssignment, Missing
 
 ANSWERS = ("yes", "no", "fails")
@@ -131,3 +131,17 @@ def steadily_walked(rows, assignment):
             return tuple(asked), "failed"
         target = yes if answers[name] == "yes" else no
     return tuple(asked), target
+
+
+def both_runs(one, other):
+    """Return a list of tuples of an assignment and of the steady runs of the two conditions with it.
+
+    It goes through all assignments of the names of both, in ascending order.
+    """
+    both = both_names(one, other)
+    rows = rows_of(one)
+    other_rows = rows_of(other)
+    return [
+        (assignment, steadily_walked(rows, assignment), steadily_walked(other_rows, assignment))
+        for assignment in assignments(both)
+    ]

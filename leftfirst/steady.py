@@ -4,7 +4,7 @@ A steady tree is a result, or a tuple of the name that is asked and of the trees
 not ask this name again. With at most 8 names it has at most 255 askings, so it may be built whole.
 """
 
-from leftfirst.codes import bounded, check_code, met, tidied
+from leftfirst.codes import bounded, check_code, cut, met, tidied
 from leftfirst.conditions import check_condition, is_condition
 from leftfirst.errors import InvalidNumber, TooLarge
 from leftfirst.running import rows_of
@@ -97,9 +97,8 @@ def _condition_of_row(name, yes, no):
 
 def _divided(code, at, kind):
     """Return the condition of this kind for a code, all ways of which lead to this row or settle the condition."""
-    end = "yes" if kind == "and" else "no"
-    rows = [(name, end if yes == at else yes, end if no == at else no) for name, yes, no in code]
-    return (kind, _condition_from(tidied(rows)), _condition_from(tidied(code, at)))
+    before = cut(code, at, "yes" if kind == "and" else "no")
+    return (kind, _condition_from(tidied(before)), _condition_from(tidied(code, at)))
 
 
 def steady_count(number):

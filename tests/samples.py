@@ -93,7 +93,8 @@ def invalid_conditions():
     """Values that are no conditions."""
     found = [*plain_values(), "a", "test", "a and b", *[beyond for _, beyond in bounds().values()]]
     found += [("test", name) for name in invalid_names()]
-    found += [("test",), ("test", "a", "b"), ("test", "a", None), ("not",), ("not", A, A), ("not", "a"), ("not", A, None)]
+    found += [("test",), ("test", "a", "b"), ("test", "a", None), ("not",), ("not", A, A), ("not", "a"),
+              ("not", A, None)]
     for kind in ("and", "or"):
         found += [(kind,), (kind, A), (kind, "a", "b"), (kind, A, "b"), (kind, A, None), (kind, [A, B]), (kind, (A, B))]
     found += [("if",), ("if", A), ("if", A, B), ("if", A, B, C, D), ("if", "a", "b", "c"), ("if", (A, B, C))]
@@ -202,6 +203,19 @@ def tree_of(condition, answered=()):
     return (name, *[tree_of(condition, [*answered, (name, answer)]) for answer in ("yes", "no")])
 
 
+def free_tree(condition, answers=()):
+    """The tree of all evaluations of a condition: a result, or a tuple of the name that is asked and of two trees."""
+    asked, end = told(condition, answers)
+    if end != "open":
+        return end
+    return (asked[-1], *[free_tree(condition, [*answers, answer]) for answer in ("yes", "no")])
+
+
+def ends_of(condition, names, choices=("yes", "no", "fails")):
+    """The ends for all assignments of these names, with these answers, in a fixed order."""
+    return tuple([told_steadily(condition, dict(answered))[1] for answered in all_assignments(names, choices)])
+
+
 def ways(run, choices=("yes", "no", "fails")):
     """All lists of answers that lead to an end, none of them longer than needed. (run takes a list of answers.)"""
     found = []
@@ -274,20 +288,34 @@ def chain(number, names="abcdefgh"):
     return (*rows[:-1], (rows[-1][0], "yes", "no"))
 
 
+def random_code(source, number):
+    """A code with so many rows that has no condition in general; source is a random.Random."""
+    rows = []
+    for k in range(number):
+        later = ["yes", "no", *range(max(0, k - 6), k)]
+        rows.append((source.choice("abcdefgh"), k - 1 if k else "yes", source.choice(later)))
+    # The last row is the first one now: so the rows are numbered from the end, along the yes targets.
+    return tuple([tuple([number - 1 - part if isinstance(part,
+                                                         int) else part for part in row]) for row in reversed(rows)])
+
+
 def invalid_codes():
     """Values that are no codes."""
     one = (("a", 1, "no"), ("b", "yes", "no"))
     found = [*plain_values(), "a", "yes", A, ("and", A, B), nested(99, tuple), nested(99, list), nested(99, dict)]
     found += [list(one), [*one], (list(one[0]), one[1]), (one[0], list(one[1])), {0: one[0], 1: one[1]}, one[1], (one,)]
-    found += [(("a", "yes", "no", "no"),), (("a", "yes"),), (("a",),), ((),), ("a",), (None,), (("a", "yes", "no"), None)]
+    found += [(("a", "yes", "no", "no"),), (("a", "yes"),), (("a",),), ((),), ("a",), (None,),
+              (("a", "yes", "no"), None)]
     found += [((name, "yes", "no"),) for name in invalid_names()]
     targets = [True, False, None, -1, 1, 2, 60, 10 ** 999, -10 ** 999, "", "Yes", "NO", "fails", "failed", "open", "a",
                "0", "1", "yes ", " no", (), [], {}, ("yes",), ["no"], (0,), [0], nested(95, tuple)]
     found += [(("a", target, "no"),) for target in targets] + [(("a", "yes", target),) for target in targets]
     second = [target for target in targets if target != 1 or target is True]
     found += [(("a", target, "no"), one[1]) for target in second]
-    found += [(one[0], ("b", target, "no")) for target in targets] + [(one[0], ("b", "yes", target)) for target in targets]
-    found += [*misplaced_codes(), *cyclic_codes(), chain(61), chain(400), chain(9, "abcdefghi"), (("a", "yes", "no"),) * 400]
+    found += [(one[0], ("b", target, "no")) for target in targets] + [(one[0],
+                                                                       ("b", "yes", target)) for target in targets]
+    found += [*misplaced_codes(), *cyclic_codes(), chain(61), chain(400), chain(9, "abcdefghi"),
+              (("a", "yes", "no"),) * 400]
     return found
 
 
@@ -330,7 +358,8 @@ def invalid_answers():
     found = [value for value in plain_values() if value != []]
     found += ["yes", "no", ("yes",), ("yes", "no"), {"yes": "no"}, {0: "yes"}, ["yes"] * 201, ["fails"] * 400]
     found += [[*before, bad, *behind] for before, behind in [([], []), (["yes"], ["no"]), (["fails"] * 199, [])]
-              for bad in ["", "Yes", "NO", "fail", "failed", "open", "yes ", " no", None, True, False, 0, 1, [], ["yes"], (),
+              for bad in ["", "Yes", "NO", "fail", "failed", "open", "yes ", " no", None, True, False, 0, 1, [],
+                          ["yes"], (),
                           ("yes",), {}, {"yes": "yes"}, nested(98, list), nested(98, tuple)]]
     return found
 
@@ -339,7 +368,8 @@ def invalid_assignments(answers=("yes", "no")):
     """Values that are no assignments of these answers."""
     found = [value for value in plain_values() if value != ()]
     found += ["yes", ["a", "yes"], ("a", "yes"), [("a", "yes")], {"a": "yes"}, (["a", "yes"],), ({"a": "yes"},)]
-    found += [(("a", "yes"), ["b", "no"]), ("ay", "bn"), (("a",),), ((),), (("a", "yes", "no"),), (("a", "yes"), ("b",))]
+    found += [(("a", "yes"), ["b", "no"]), ("ay", "bn"), (("a",),), ((),), (("a", "yes", "no"),),
+              (("a", "yes"), ("b",))]
     found += [((name, "yes"),) for name in invalid_names()] + [(("a", "no"), (name, "yes")) for name in invalid_names()]
     bad = ["", "Yes", "NO", "fail", "failed", "open", "yes ", None, True, False, 0, 1, [], ["yes"], (), ("yes",), {}]
     bad += [answer for answer in ANSWERS if answer not in answers]
@@ -353,7 +383,8 @@ def invalid_assignments(answers=("yes", "no")):
 
 def invalid_kinds():
     """Values that are neither "and" nor "or"."""
-    return [*plain_values(), "not", "if", "else", "test", "AND", "Or", "and ", " or", "and or", "a", "xor", ["and"], ("or",),
+    return [*plain_values(), "not", "if", "else", "test", "AND", "Or", "and ", " or", "and or", "a", "xor", ["and"],
+            ("or",),
             {"and": "or"}, nested(99, list), "and" * 9999]
 
 
@@ -362,3 +393,35 @@ def invalid_numbers(least, most):
     found = [value for value in plain_values() if not isinstance(value, int) or isinstance(value, bool)]
     found += [least - 1, most + 1, least - 100, most + 100, 10 ** 999, -10 ** 999]
     return [*found, str(least), str(most), [least], (most,), {most: most}, nested(99, list)]
+
+
+def invalid_strengths():
+    """Values that are none of the four strengths."""
+    return [*plain_values(), "none", "Free", "STEADY", "free ", " truth", "outcomes", "equal", "yes", "a",
+            "free steady", ["free"],
+            ("steady",), {"truth": "truth"}, nested(99, list), nested(99, tuple), "truth" * 6000]
+
+
+def invalid_memories():
+    """Values that are no memories."""
+    pair, other = (("a",), "yes"), (("a", "b"), "no")
+    found = [value for value in plain_values() if value != []]
+    found += [pair, (pair,), (pair, other), {("a",): "yes"}, {0: pair}, "yes", [pair, None], [None, pair], ["yes"],
+              ["yes", "no"]]
+    found += [[list(pair)], [pair, list(other)], [{("a",): "yes"}], [(["a"], "yes")], [pair, (["a", "b"], "no")]]
+    found += [[("a", "yes")], [({"a": "a"}, "yes")], [({}, "yes")], [(None, "yes")], [("", "yes")], [((), "yes")]]
+    found += [[pair, ((), "no")], [(("a",) * 61, "yes")], [pair, (("a", "b") * 31, "no")], [(("a",) * 400, "yes")]]
+    found += [[(("a",),)], [(("a",), "yes", "no")], [()], [("yes", ("a",))], [((("a",),), "yes")],
+              [(("a", ("b",)), "yes")]]
+    found += [[pair, pair], [pair, (("a",), "no")], [pair, other, pair], [other, pair, (("a", "b"), "yes")]]
+    found += [[*long_memory(199), (("a", "a"), "no")], long_memory(201), long_memory(400), [pair] * 200]
+    found += [[((name,), "yes")] for name in invalid_names()] + [[pair,
+                                                                  (("a", name), "yes")] for name in invalid_names()]
+    bad = ["fails", "failed", "open", "", "Yes", "NO", "yes ", None, True, False, 0, 1, [], ["yes"], (), ("yes",), {}]
+    return [*found, *[[(("a",), answer)] for answer in bad], *[[pair, (("a", "b"), answer)] for answer in bad],
+            [(nested(97, tuple), "yes")], [nested(98, tuple)], nested(99, list), nested(99, tuple)]
+
+
+def long_memory(number):
+    """A memory with so many pairs, none of them with more than 30 names."""
+    return [((*["b"] * (k // 20), *["a"] * (k % 20 + 1)), "yes" if k % 3 else "no") for k in range(number)]

@@ -14,7 +14,7 @@ from leftfirst.texts import read
 from tests.checks import Calls
 from tests.samples import A, ANSWERS, B, all_assignments, bounds, chain, code_of_tree, flat, invalid_answers
 from tests.samples import invalid_assignments, invalid_codes, invalid_conditions, invalid_kinds, invalid_names
-from tests.samples import invalid_numbers, nested, nots, random_conditions, unchanged
+from tests.samples import invalid_numbers, nested, nots, random_code, random_conditions, unchanged
 
 ROWS = (("a", 1, "no"), ("b", "yes", "no"))
 SOME = [None, True, 0, "", "a", (), [], {}, ["test", "a"], ("and", A), nots(80, A), flat("or", "a" * 61)]
@@ -279,7 +279,7 @@ class Time(Calls):
             rows = [(letters[k % len(letters)], k + 1, k + 1) for k in range(59)]
             self.check_code((*rows, ("a", "yes", "no")))
         for _ in range(20):
-            rows = random_code(source)
+            rows = random_code(source, 60)
             self.assertEqual(len(rows), 60)
             self.check_code(rows)
 
@@ -298,16 +298,6 @@ class Time(Calls):
     def test_the_largest_counts(self):
         self.assertGreater(self.check_time(steady_count, 8), 10 ** 150)
         self.assertGreater(self.check_time(outcome_count, 8), 10 ** 130)
-
-
-def random_code(source):
-    """A code with 60 rows that has no condition in general; source is a random.Random."""
-    rows = []
-    for k in range(60):
-        later = ["yes", "no", *range(max(0, k - 6), k)]
-        rows.append((source.choice("abcdefgh"), k - 1 if k else "yes", source.choice(later)))
-    # Row 59 is the first one now: so the rows are numbered from the end, along the yes targets.
-    return tuple([tuple([59 - part if isinstance(part, int) else part for part in row]) for row in reversed(rows)])
 
 
 def layered(source, letters):

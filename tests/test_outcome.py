@@ -12,8 +12,8 @@ from leftfirst.outcome import always_asked, outcome, outcome_code, outcome_count
 from leftfirst.steady import is_steady, pruned, unpruned
 from leftfirst.texts import read
 from tests.checks import kinds
-from tests.samples import A, ANSWERS, all_assignments, bounds, code_of_tree, flat, random_conditions, small_conditions
-from tests.samples import steady_trees, told_steadily, tree_of
+from tests.samples import A, ANSWERS, all_assignments, bounds, code_of_tree, ends_of, flat, random_conditions
+from tests.samples import small_conditions, steady_trees, told_steadily, tree_of
 
 # The outcome codes of these two conditions have just 60 rows and one more. (The pruned code of the other has 59.)
 SIXTY = read("not (((a or d) or c or e) and not (not (g and (h or d) and e) and ((h or not e) and (b or a or b)) and"
@@ -60,11 +60,6 @@ def least_first(tree):
         return part[k] if part[0] == name else (part[0], without(part[1], k), without(part[2], k))
 
     return (name, least_first(without(tree, 1)), least_first(without(tree, 2)))
-
-
-def ends_of(condition, letters):
-    """The ends for all outcome assignments of these names, in a fixed order."""
-    return tuple([told_steadily(condition, dict(answered))[1] for answered in all_assignments(letters, ANSWERS)])
 
 
 class Examples(unittest.TestCase):
