@@ -28,11 +28,11 @@ def _is_row(value, number):
     if not isinstance(value, tuple) or len(value) != 3:
         return False
     name, yes, no = value
-    return is_name(name) and _is_target(yes, number) and _is_target(no, number)
+    return is_name(name) and is_target(yes, number) and is_target(no, number)
 
 
-def _is_target(value, number):
-    """Return whether value is a result or the number of one of so many rows."""
+def is_target(value, number):
+    """Return whether value is a result or one of so many numbers from 0 on."""
     if isinstance(value, int) and not isinstance(value, bool):
         return 0 <= value < number
     return value in RESULTS

@@ -1,6 +1,6 @@
 """Conditions: their form, their tests and names, and conditions that are made of them."""
 
-from leftfirst.errors import InvalidCondition, InvalidName, TooLarge
+from leftfirst.errors import InvalidCondition, InvalidName, InvalidNames, TooLarge
 
 MOST_TESTS = 60
 MOST_NOTS = 200
@@ -22,6 +22,19 @@ def check_name(value):
     """Raise InvalidName if value is no name."""
     if not is_name(value):
         raise InvalidName("a name has 1 to 8 letters from a to z and is none of the words and, or, not, if, else")
+
+
+def are_names(value):
+    """Return whether value is a tuple of at most 8 names in strictly ascending order."""
+    if not isinstance(value, tuple) or len(value) > MOST_NAMES or not all([is_name(name) for name in value]):
+        return False
+    return list(value) == sorted(set(value))
+
+
+def check_names(value):
+    """Raise InvalidNames if value is no ascending tuple of 1 to 8 different names."""
+    if not are_names(value) or len(value) == 0:
+        raise InvalidNames("an ascending tuple of 1 to 8 different names is required")
 
 
 def is_condition(value):

@@ -1,6 +1,6 @@
 """Runs of conditions: what they ask, and how they end, with answers in a list or in an assignment."""
 
-from leftfirst.conditions import MOST_NAMES, both_names, check_condition, is_name
+from leftfirst.conditions import are_names, both_names, check_condition, is_name
 from leftfirst.errors import InvalidAnswers, InvalidAssignment, Missing
 
 ANSWERS = ("yes", "no", "fails")
@@ -36,12 +36,9 @@ def check_assignment(value, answers=RESULTS):
 
 def _is_assignment(value, answers):
     """Return whether value is an assignment of these answers."""
-    if not isinstance(value, tuple) or len(value) > MOST_NAMES:
+    if not isinstance(value, tuple) or not all([_is_pair(pair, answers) for pair in value]):
         return False
-    if not all([_is_pair(pair, answers) for pair in value]):
-        return False
-    found = [name for name, _ in value]
-    return found == sorted(set(found))
+    return are_names(tuple([name for name, _ in value]))
 
 
 def _is_pair(value, answers):
@@ -100,10 +97,10 @@ def _size(condition):
     return sum([_size(member) for member in condition[1:]])
 
 
-def walked(rows, answers):
-    """Return the names that are asked from row 0 on and the end, if the askings get these answers in their order."""
+def walked(rows, answers, start=0):
+    """Return the names that are asked from this row on and the end, if the askings get these answers in their order."""
     asked = []
-    target = 0
+    target = start
     while isinstance(target, int):
         name, yes, no = rows[target]
         asked.append(name)
@@ -118,6 +115,12 @@ def walked(rows, answers):
 
 def steadily_walked(rows, assignment):
     """Return the names that are asked from row 0 on, none of them twice, and the end, if they keep these answers."""
+    asked, end = repeatedly_walked(rows, assignment)
+    return tuple({name: True for name in asked}), end
+
+
+def repeatedly_walked(rows, assignment):
+    """Return the list of the names that are asked from row 0 on, as often as they are needed, and the end, likewise."""
     answers = dict(assignment)
     asked = []
     target = 0
@@ -125,12 +128,11 @@ def steadily_walked(rows, assignment):
         name, yes, no = rows[target]
         if name not in answers:
             raise Missing(name)
-        if name not in asked:
-            asked.append(name)
+        asked.append(name)
         if answers[name] == "fails":
-            return tuple(asked), "failed"
+            return asked, "failed"
         target = yes if answers[name] == "yes" else no
-    return tuple(asked), target
+    return asked, target
 
 
 def both_runs(one, other):

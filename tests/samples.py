@@ -4,6 +4,8 @@ import copy
 import itertools
 import random
 
+from leftfirst.codes import is_code
+
 A, B, C, D, E = [("test", name) for name in ("a", "b", "c", "d", "e")]
 RESERVED = ["and", "or", "not", "if", "else"]
 RESULTS = ["yes", "no"]
@@ -87,6 +89,17 @@ def invalid_names():
     texts = ["", "abcdefghi", "a" * 30000, "A", "aB", "Note", "a1", "1", "a_b", "_", "a b", " a", "a ", "a\n", "\na",
              "a\t", "a-b", "not a", "(a)", "`", "{", "a.b", *RESERVED]
     return [*plain_values(), *texts, ("a",), ["a"], {"a": "a"}, ("test", "a"), nested(99, list)]
+
+
+def invalid_names_tuples():
+    """Values that are no ascending tuples of 1 to 8 different names."""
+    found = [*plain_values(), "a", "ab", ["a"], ["a", "b"], {"a": "b"}, (("a",),), (["a"],), ("a", ["b"]),
+             (("test", "a"),)]
+    found += [tuple(letters) for letters in ["ba", "aa", "acb", "aab", "abb", "abcdefhg", "abcdefghi", "abcdefghh",
+                                             "abcdefghij"]]
+    found += [("b", "ab"), ("ab", "a"), ("a", "b", "a"), ("b", "a", "c")]
+    found += [(name,) for name in invalid_names()] + [("a", name) for name in invalid_names()]
+    return [*found, ("a",) * 400, tuple(f"n{letter}" for letter in "abcdefghijkl"), nested(99, tuple), nested(99, list)]
 
 
 def invalid_conditions():
@@ -288,6 +301,15 @@ def chain(number, names="abcdefgh"):
     return (*rows[:-1], (rows[-1][0], "yes", "no"))
 
 
+def all_codes(number, names):
+    """All codes with so many rows that have these names in their order."""
+    targets = ["yes", "no", *range(number)]
+    for chosen in itertools.product(itertools.product(targets, repeat=2), repeat=number):
+        rows = tuple([(name, *pair) for name, pair in zip(names, chosen)])
+        if is_code(rows):
+            yield rows
+
+
 def random_code(source, number):
     """A code with so many rows that has no condition in general; source is a random.Random."""
     rows = []
@@ -425,3 +447,33 @@ def invalid_memories():
 def long_memory(number):
     """A memory with so many pairs, none of them with more than 30 names."""
     return [((*["b"] * (k // 20), *["a"] * (k % 20 + 1)), "yes" if k % 3 else "no") for k in range(number)]
+
+
+def invalid_machines():
+    """Values that are no machines."""
+    both = (("jump", "a", "no", "no"), ("jump", "b", "yes", "yes"), ("goto", "no"))
+    found = [*plain_values(), "a", "goto", A, ("and", A, B), both[0], both[2], ("goto", "yes"), (both,), {0: both[2]}]
+    found += [list(both), [*both], (list(both[0]), both[2]), (both[0], list(both[2])), ({}, both[2]), (None, both[2])]
+    found += [(both[0], None), (both[0], ()), ((), both[2]), ("goto", both[2]), (("goto",),), (("goto", "no", "no"),),
+              ("ab",)]
+    found += [(("jump", "a", "no"), both[2]), (("jump", "a"), both[2]), (("jump", "a", "no", "no", "no"), both[2]),
+              (("jump",),)]
+    found += [(("go", "no"),), (("GOTO", "no"),), (("", "no"),), ((None, "no"),), (("jump", "no"),),
+              ((("goto",), "no"),)]
+    found += [(("goto", "a", "no", "no"), both[2]), (("Jump", "a", "no", "no"), both[2]),
+              ((None, "a", "no", "no"), both[2])]
+    found += [(("jump", name, "no", "no"), both[2]) for name in invalid_names()]
+    found += [(("goto", "yes"), ("jump", name, "no", "no"), both[2]) for name in invalid_names()]
+    bad = ["fails", "failed", "open", "", "Yes", "NO", "yes ", None, True, False, 0, 1, [], ["yes"], (), ("yes",), {}]
+    found += [(("jump", "a", answer, "no"), both[2]) for answer in bad]
+    targets = [True, False, None, -1, 3, 4, 120, 10 ** 999, -10 ** 999, "", "Yes", "NO", "fails", "failed", "open", "a",
+               "0", "1", "yes ", " no", (), [], {}, ("yes",), ["no"], (0,), [0], nested(95, tuple)]
+    found += [(("jump", "a", "no", target), *both[1:]) for target in targets]
+    found += [(("goto", target), *both[1:]) for target in targets] + [(*both[:2],
+                                                                       ("goto", target)) for target in targets]
+    found += [both[:2], both[:1], (both[2], both[0]), (*both, both[1]), (("goto", 0),), (("goto", 1), ("goto", 0))]
+    found += [(("goto", "yes"), ("goto", 1)), (("goto", "yes"), ("jump", "a", "no", 1), both[2])]
+    found += [(("goto", "no"),) * 121, (("goto", "no"),) * 400, (*[("jump", "a", "no", "no")] * 120, both[2])]
+    found += [(*[("jump", name, "no", "no") for name in "abcdefghi"], both[2])]
+    found += [(both[2], *[("jump", name, "no", "no") for name in "abcdefghi"], both[2])]
+    return [*found, nested(99, tuple), nested(99, list), nested(99, dict), both[0] * 100, (both[2], [both[2]] * 300)]

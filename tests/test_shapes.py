@@ -12,8 +12,8 @@ from leftfirst.forms import basic, factors, normal
 from leftfirst.shapes import condition_of, factor_codes, parts, plain, plain_parts, shaped
 from leftfirst.texts import read, write
 from tests.checks import kinds
-from tests.samples import A, B, bounds, chain, code_of_tree, flat, random_code, random_conditions, small_conditions
-from tests.samples import steady_trees
+from tests.samples import A, B, all_codes, bounds, chain, code_of_tree, flat, random_code, random_conditions
+from tests.samples import small_conditions, steady_trees
 
 ONE = (("a", 1, 2), ("b", "yes", 2), ("c", "yes", "no"))
 TWO = (("a", 1, 2), ("b", "yes", "no"), ("c", "yes", "no"))
@@ -48,15 +48,6 @@ def reduced(rows, both, source):
         left = source.choice(found)
         found = steps(left, both)
     return left
-
-
-def all_codes(number, names):
-    """All codes with so many rows that have these names in their order."""
-    targets = ["yes", "no", *range(number)]
-    for chosen in itertools.product(itertools.product(targets, repeat=2), repeat=number):
-        rows = tuple([(name, *pair) for name, pair in zip(names, chosen)])
-        if is_code(rows):
-            yield rows
 
 
 def all_conditions(number, letters, with_if):
