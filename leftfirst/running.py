@@ -1,6 +1,6 @@
 """Runs of conditions: what they ask, and how they end, with answers in a list or in an assignment."""
 
-from leftfirst.conditions import are_names, both_names, check_condition, is_name
+from leftfirst.conditions import are_names, both_names, check_condition
 from leftfirst.errors import InvalidAnswers, InvalidAssignment, Missing
 
 ANSWERS = ("yes", "no", "fails")
@@ -36,14 +36,14 @@ def check_assignment(value, answers=RESULTS):
 
 def _is_assignment(value, answers):
     """Return whether value is an assignment of these answers."""
-    if not isinstance(value, tuple) or not all([_is_pair(pair, answers) for pair in value]):
+    if not isinstance(value, tuple) or not all([_is_answered(pair, answers) for pair in value]):
         return False
     return are_names(tuple([name for name, _ in value]))
 
 
-def _is_pair(value, answers):
-    """Return whether value is a pair of a name and one of the answers."""
-    return isinstance(value, tuple) and len(value) == 2 and is_name(value[0]) and value[1] in answers
+def _is_answered(value, answers):
+    """Return whether value is a pair of anything and of one of the answers."""
+    return isinstance(value, tuple) and len(value) == 2 and value[1] in answers
 
 
 def assignments(names):

@@ -51,7 +51,6 @@ def cheapest(condition):
 
 def _cheapest_tree(condition):
     """Return a steady tree that asks a name and ends as the condition does, with the fewest askings."""
-    check_condition(condition)
     own = tuple(_own_names(condition))
     if len(own) > MOST_SEARCHED:
         raise TooLarge("the fewest askings are found for at most 6 names")

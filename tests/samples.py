@@ -460,6 +460,7 @@ def invalid_machines():
               (("jump",),)]
     found += [(("go", "no"),), (("GOTO", "no"),), (("", "no"),), ((None, "no"),), (("jump", "no"),),
               ((("goto",), "no"),)]
+    found += [(("go", "no"), both[2]), (("GOTO", "no"), both[2]), ((None, "no"), both[2]), (("jump", "no"), both[2])]
     found += [(("goto", "a", "no", "no"), both[2]), (("Jump", "a", "no", "no"), both[2]),
               ((None, "a", "no", "no"), both[2])]
     found += [(("jump", name, "no", "no"), both[2]) for name in invalid_names()]
